@@ -469,3 +469,27 @@ func TestAllElseStays(t *testing.T) {
 		}
 	}
 }
+
+func TestSpareRoom(t *testing.T) {
+	// What lies behind the lists of a font, in their spare room, is not written to.
+	f := standard()
+	n := len(f.Tables)
+	f.Tables = append(f.Tables, api.Table{Tag: "mark"}, api.Table{Tag: "mark"}, api.Table{Tag: "mark"}, api.Table{Tag: "mark"})[:n]
+	f.Glyphs[0] = append(f.Glyphs[0], 55, 55)[:len(f.Glyphs[0])]
+	code := f.Glyphs[0][:len(f.Glyphs[0])+2]
+	before := clone(f)
+	for i, edited := range []func() (api.Font, api.Errno){
+		func() (api.Font, api.Errno) { return edit.Put(f, 3, api.Outline{box(0, 0, 9, 9)}) },
+		func() (api.Font, api.Errno) { return edit.Overlaps(f, 2) },
+		func() (api.Font, api.Errno) { return edit.Join(f, api.Union, 0, 1, 3) },
+	} {
+		if _, e := edited(); e != api.OK || !same(f, before) {
+			t.Errorf("edit %d: %d", i, e)
+		}
+		for _, x := range f.Tables[:n+4][n:] {
+			if x.Tag != "mark" || !bytes.Equal(code[len(code)-2:], []byte{55, 55}) {
+				t.Errorf("edit %d: spare room was written to", i)
+			}
+		}
+	}
+}

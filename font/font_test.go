@@ -373,3 +373,34 @@ func TestSyncErrors(t *testing.T) {
 		}
 	}
 }
+
+func TestSpareRoom(t *testing.T) {
+	// What lies behind the lists of a font, in their spare room, is not written to; nor is the font by one who has its file.
+	f := sample(false, 2, 4, 0, 6)
+	mark := api.Table{Tag: "mark", Data: []byte{77}}
+	f.Tables = append(f.Tables, mark, mark, mark, mark)[:5]
+	f.Glyphs = append(f.Glyphs, []byte{1}, []byte{2})[:3]
+	f.Glyphs[0] = append(f.Glyphs[0], 55, 55)[:4]
+	f.Metrics = append(f.Metrics, api.Metric{Advance: 1}, api.Metric{Advance: 2})[:3]
+	before := plain(f)
+	b, e := font.Write(f)
+	g, e2 := font.Sync(f)
+	if e != api.OK || e2 != api.OK || !same(g, f) || !same(f, before) {
+		t.Fatal(e, e2)
+	}
+	for i := range b {
+		b[i] ^= 0xff
+	}
+	spoil(g)
+	for _, x := range f.Tables[:9][5:] {
+		if x.Tag != "mark" || !bytes.Equal(x.Data, mark.Data) {
+			t.Error("tables:", x)
+		}
+	}
+	if glyphs := f.Glyphs[:5]; !bytes.Equal(glyphs[3], []byte{1}) || !bytes.Equal(glyphs[4], []byte{2}) || !bytes.Equal(f.Glyphs[0][:6][4:], []byte{55, 55}) {
+		t.Error("glyphs:", glyphs)
+	}
+	if l := f.Metrics[:5]; l[3].Advance != 1 || l[4].Advance != 2 || !same(f, before) {
+		t.Error("metrics:", l)
+	}
+}

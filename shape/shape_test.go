@@ -356,3 +356,16 @@ func TestCircle(t *testing.T) {
 		}
 	}
 }
+
+func TestSpareRoom(t *testing.T) {
+	// What lies behind an argument, in its spare room, is not written to.
+	all := lines(box(0, 0, 4, 4), box(9, 9, 12, 12))
+	before := slices.Clone(all)
+	if _, e := shape.Of(api.Union, all[:4], lines(box(2, 2, 6, 6))); e != api.OK || !slices.Equal(all, before) {
+		t.Error(all, e)
+	}
+	o := lift(box(0, 0, 4, 4), box(9, 9, 12, 12))
+	if got, e := shape.Apply(api.Union, o[:1], lift(box(2, 2, 6, 6))); e != api.OK || len(got) != 1 || !same(o, lift(box(0, 0, 4, 4), box(9, 9, 12, 12))) {
+		t.Error(got, e, o)
+	}
+}

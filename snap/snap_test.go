@@ -296,3 +296,14 @@ func TestEdgesMany(t *testing.T) {
 		}
 	}
 }
+
+func TestEdgesSpareRoom(t *testing.T) {
+	// What lies behind an argument, in its spare room, is not written to.
+	all := []api.Line{line(0, 0, 640, 640), line(0, 640, 640, 0), line(1, 2, 3, 4), line(5, 6, 7, 8)}
+	before := slices.Clone(all)
+	b := []api.Line{line(0, 320, 640, 320)}
+	got, e := snap.Edges(all[:2], b)
+	if e != api.OK || !slices.Equal(got, edges(before[:2], b)) || !slices.Equal(all, before) {
+		t.Error(got, e, all)
+	}
+}
