@@ -26,11 +26,14 @@ const (
 // words are the words for the numbers from 1 on. Where there are fewer of them, the rest are empty.
 type words [4]string
 
-var (
-	opWords   = words{"union", "meet", "minus", "xor"}
-	joinWords = words{"miter", "bevel", "round"}
-	capWords  = words{"butt", "square", "round"}
-)
+// opWords are the operations, in the order of their numbers.
+func opWords() words { return words{"union", "meet", "minus", "xor"} }
+
+// joinWords are the joins of a stroke.
+func joinWords() words { return words{"miter", "bevel", "round"} }
+
+// capWords are the caps of a stroke.
+func capWords() words { return words{"butt", "square", "round"} }
 
 // find is the number that a word stands for, or 0.
 func (l words) find(word string) int {
@@ -94,9 +97,9 @@ func Parse(line string) (Cmd, api.Errno) {
 	case overlapsWord:
 		c = Cmd{Kind: overlaps, A: number()}
 	case joinWord:
-		c = Cmd{Kind: join, Op: choice(opWords), A: number(), B: number(), To: number()}
+		c = Cmd{Kind: join, Op: choice(opWords()), A: number(), B: number(), To: number()}
 	case strokeWord:
-		c = Cmd{Kind: stroke, A: number(), Pen: api.Pen{Half: number(), Join: choice(joinWords), Limit: number(), Cap: choice(capWords), Open: way()}}
+		c = Cmd{Kind: stroke, A: number(), Pen: api.Pen{Half: number(), Join: choice(joinWords()), Limit: number(), Cap: choice(capWords()), Open: way()}}
 	case windsWord:
 		c = Cmd{Kind: winds, A: number(), At: api.Point{X: signed(), Y: signed()}}
 	default:
@@ -144,14 +147,14 @@ func Print(c Cmd) (string, api.Errno) {
 		numbers(c.A)
 	case join:
 		word(joinWord)
-		word(opWords.of(c.Op))
+		word(opWords().of(c.Op))
 		numbers(c.A, c.B, c.To)
 	case stroke:
 		word(strokeWord)
 		numbers(c.A, c.Pen.Half)
-		word(joinWords.of(c.Pen.Join))
+		word(joinWords().of(c.Pen.Join))
 		numbers(c.Pen.Limit)
-		word(capWords.of(c.Pen.Cap))
+		word(capWords().of(c.Pen.Cap))
 		if c.Pen.Open {
 			word(openWord)
 		} else {
